@@ -1,16 +1,19 @@
 package nondet
 
-import "anceps/api"
+import (
+	"anceps/api"
+	"anceps/subset"
+)
 
 // machine goes through words with a valid automaton with choices. It keeps the present set closed, so that a set is the same wherever it is reached.
 type machine struct {
 	n      api.NFA
 	first  []int // by the number of a state and a letter: where their edges begin
-	accept set
+	accept subset.Set
 }
 
 func newMachine(n api.NFA) machine {
-	m := machine{n: n, accept: setOf(n.Accept)}
+	m := machine{n: n, accept: subset.Of(n.Accept...)}
 	m.first = make([]int, n.States*(n.Letters+1)+1)
 	for _, edge := range n.Edges {
 		m.first[m.number(edge.From, edge.Letter)+1]++
@@ -33,14 +36,14 @@ func (m machine) edges(state, letter int) []api.Edge {
 }
 
 // closure adds to a set the states to which edges lead that read nothing.
-func (m machine) closure(s set) set {
-	open := s.states()
+func (m machine) closure(s subset.Set) subset.Set {
+	open := s.Members()
 	for len(open) > 0 {
 		state := open[len(open)-1]
 		open = open[:len(open)-1]
 		for _, edge := range m.edges(state, silent) {
-			if !s.has(edge.To) {
-				s.add(edge.To)
+			if !s.Has(edge.To) {
+				s.Add(edge.To)
 				open = append(open, edge.To)
 			}
 		}
@@ -49,51 +52,21 @@ func (m machine) closure(s set) set {
 }
 
 // start returns the set to which no letters lead.
-func (m machine) start() set {
-	return m.closure(setOf(m.n.Starts))
+func (m machine) start() subset.Set {
+	return m.closure(subset.Of(m.n.Starts...))
 }
 
 // follow returns the set to which a letter leads from a set.
-func (m machine) follow(s set, letter int) set {
-	var to set
-	for _, state := range s.states() {
+func (m machine) follow(s subset.Set, letter int) subset.Set {
+	var to subset.Set
+	for _, state := range s.Members() {
 		for _, edge := range m.edges(state, letter) {
-			to.add(edge.To)
+			to.Add(edge.To)
 		}
 	}
 	return m.closure(to)
 }
 
-func (m machine) accepts(s set) bool {
-	return s.meets(m.accept)
-}
-
-// determined returns an automaton whose states are the reached sets.
-func (m machine) determined() (api.DFA, api.Errno) {
-	d := api.DFA{Letters: m.n.Letters}
-	var sets []set
-	numbers := map[set]int{}
-	numbers[set{}] = none
-	number := func(s set) int {
-		i, known := numbers[s]
-		if !known {
-			i = len(sets)
-			numbers[s] = i
-			sets = append(sets, s)
-		}
-		return i
-	}
-	d.Start = number(m.start())
-	for i := 0; i < len(sets); i++ {
-		if len(sets) > api.MaxStates {
-			return api.DFA{}, api.ErrTooLarge
-		}
-		row := make([]int, d.Letters)
-		for letter := range row {
-			row[letter] = number(m.follow(sets[i], letter))
-		}
-		d.Next = append(d.Next, row)
-		d.Accept = append(d.Accept, m.accepts(sets[i]))
-	}
-	return d, api.OK
+func (m machine) accepts(s subset.Set) bool {
+	return s.Meets(m.accept)
 }
